@@ -156,15 +156,17 @@ func TestTurned(t *testing.T) {
 			p[i] = byte(7*i + n)
 		}
 		closed := sum.Close(p)
-		for i := range closed {
-			for turned := 1; turned < 256; turned++ { // one byte, in any way
+		for i := range closed { // one byte, in any way
+			for turned := 1; turned < 256; turned++ {
 				spoilt := bytes.Clone(closed)
 				spoilt[i] ^= byte(turned)
 				wantTurned(t, spoilt)
 			}
-			for j := range 8 * i { // two bits, anywhere
+		}
+		for i := range 8 * len(closed) { // any two bits
+			for j := range i {
 				spoilt := bytes.Clone(closed)
-				spoilt[i] ^= 1
+				spoilt[i/8] ^= 1 << (i % 8)
 				spoilt[j/8] ^= 1 << (j % 8)
 				wantTurned(t, spoilt)
 			}
